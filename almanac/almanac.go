@@ -1,0 +1,105 @@
+// Package almanac: a store with a past, and memories beside it: see DOC.md.
+package almanac
+
+import (
+	"almanac/api"
+	"almanac/queries"
+	"almanac/readers"
+	"almanac/store"
+)
+
+// World is a store with its nodes, links, puts and readers.
+type World struct {
+	store   store.Store
+	readers readers.Readers
+}
+
+// Parse tells what a query is (P3).
+func Parse(query string) (api.Shape, api.Errno) {
+	return queries.Parse(query)
+}
+
+// Eval tells what a query is in a state (P4).
+func Eval(query string, s api.State) (int32, api.Errno) {
+	return queries.Eval(query, s)
+}
+
+// New gives a world (P5).
+func New(nodes int, room int) (*World, api.Errno) {
+	if nodes < 1 || nodes > api.MaxNodes {
+		return nil, api.ErrNodes
+	}
+	if room < 1 || room > api.MaxRoom {
+		return nil, api.ErrRoom
+	}
+	return &World{}, api.OK
+}
+
+// Commit writes (P6).
+func (w *World) Commit(l []api.Write) (api.Stamp, api.Errno) {
+	return w.store.Commit(l)
+}
+
+// Tick lets the clock go on (P7).
+func (w *World) Tick() api.Errno {
+	return w.store.Tick()
+}
+
+// Now tells the newest stamp and the clock (P7).
+func (w *World) Now() (api.Stamp, int) {
+	newest := w.store.Newest()
+	return newest, w.store.Clock()
+}
+
+// Begin begins a reader (P8).
+func (w *World) Begin(limit int) (int, api.Errno) {
+	if limit < 0 || limit > api.MaxClock {
+		return 0, api.ErrArg
+	}
+	// A tick below 0 needs no case of its own: all ticks are from there on.
+	tick := w.store.Clock() - limit
+	from := w.store.Since(tick)
+	to := w.store.Newest()
+	return w.readers.Begin(api.Span{From: from, To: to})
+}
+
+// Read tells a reader what a query is, and whether a node knew (P9, P10).
+func (w *World) Read(reader int, query string) (int32, bool, api.Errno) { return 0, false, api.OK }
+
+// End ends a reader, and tells its span (P8).
+func (w *World) End(reader int) (api.Span, api.Errno) {
+	return w.readers.End(reader)
+}
+
+// Puts tells what is on its way to be remembered (P11).
+func (w *World) Puts() []api.Entry { return nil }
+
+// Store lets a put arrive (P12).
+func (w *World) Store(i int) (bool, api.Errno) { return false, api.OK }
+
+// Drop loses a put (P11).
+func (w *World) Drop(i int) api.Errno { return api.OK }
+
+// Evict lets a node forget an entry (P13).
+func (w *World) Evict(node int, i int) api.Errno { return api.OK }
+
+// Look tells what a node is (P13).
+func (w *World) Look(node int) (api.Report, api.Errno) { return api.Report{}, api.OK }
+
+// Flight tells the messages on their way to a node (P14).
+func (w *World) Flight(node int) ([]api.Message, api.Errno) { return nil, api.OK }
+
+// Deliver lets a message arrive (P15).
+func (w *World) Deliver(node int, i int) api.Errno { return api.OK }
+
+// Lose loses a message (P14).
+func (w *World) Lose(node int, i int) api.Errno { return api.OK }
+
+// Copy makes a message twice (P14).
+func (w *World) Copy(node int, i int) api.Errno { return api.OK }
+
+// Ask lets a node ask for what it has not heard (P16).
+func (w *World) Ask(node int) (api.Stamp, api.Errno) { return 0, api.OK }
+
+// Restart lets a node fall (P16).
+func (w *World) Restart(node int) api.Errno { return api.OK }
