@@ -3,6 +3,7 @@ package almanac
 
 import (
 	"almanac/api"
+	"almanac/puts"
 	"almanac/queries"
 	"almanac/readers"
 	"almanac/store"
@@ -12,6 +13,7 @@ import (
 type World struct {
 	store   store.Store
 	readers readers.Readers
+	puts    puts.Puts
 }
 
 // Parse tells what a query is (P3).
@@ -64,7 +66,30 @@ func (w *World) Begin(limit int) (int, api.Errno) {
 }
 
 // Read tells a reader what a query is, and whether a node knew (P9, P10).
-func (w *World) Read(reader int, query string) (int32, bool, api.Errno) { return 0, false, api.OK }
+func (w *World) Read(reader int, query string) (int32, bool, api.Errno) {
+	span, e := w.readers.Span(reader)
+	if e != api.OK {
+		return 0, false, e
+	}
+	shape, e := queries.Parse(query)
+	if e != api.OK {
+		return 0, false, e
+	}
+	put := w.answer(query, shape.Keys, span.To)
+	w.readers.Narrow(reader, api.Span{From: put.From, To: span.To})
+	w.puts.Join(put)
+	return put.Value, false, api.OK
+}
+
+// answer is what the store tells of a query with these keys at a stamp, as the
+// put that it becomes (P10).
+func (w *World) answer(query string, keys uint8, t api.Stamp) api.Entry {
+	state := w.store.At(t)
+	value, _ := queries.Eval(query, state) // who asks has parsed it: it has no error
+	from, till := w.store.Right(keys, t)
+	newest := w.store.Newest()
+	return api.Entry{Query: query, Value: value, From: from, Till: till, Open: till == 0, Known: newest}
+}
 
 // End ends a reader, and tells its span (P8).
 func (w *World) End(reader int) (api.Span, api.Errno) {
@@ -72,13 +97,18 @@ func (w *World) End(reader int) (api.Span, api.Errno) {
 }
 
 // Puts tells what is on its way to be remembered (P11).
-func (w *World) Puts() []api.Entry { return nil }
+func (w *World) Puts() []api.Entry {
+	return w.puts.List()
+}
 
 // Store lets a put arrive (P12).
 func (w *World) Store(i int) (bool, api.Errno) { return false, api.OK }
 
 // Drop loses a put (P11).
-func (w *World) Drop(i int) api.Errno { return api.OK }
+func (w *World) Drop(i int) api.Errno {
+	_, e := w.puts.Take(i)
+	return e
+}
 
 // Evict lets a node forget an entry (P13).
 func (w *World) Evict(node int, i int) api.Errno { return api.OK }

@@ -229,6 +229,12 @@ func wrongCalls(t *testing.T, w *World) {
 		if span, e := w.End(reader); span != (api.Span{}) || e == api.OK {
 			t.Errorf("P1: End(%d) = %+v, %d", reader, span, e)
 		}
+		noRead(t, w, reader, "a", api.ErrReader)
+	}
+	noRead(t, w, 0, "a+", api.ErrQuery)
+	noRead(t, w, 1, strings.Repeat("a", 41), api.ErrLong)
+	for _, i := range []int{-1, 2, 10} {
+		noDrop(t, w, i)
 	}
 }
 
@@ -241,6 +247,8 @@ func TestErrorsLeaveTheWorldAsItWas(t *testing.T) {
 		for i := range api.MaxReaders {
 			begin(t, x, i%2, i)
 		}
+		read(t, x, 1, "b", 0)
+		read(t, x, 5, "a", 3)
 	}
 	wrongCalls(t, w)
 	if !reflect.DeepEqual(w, twin) {
@@ -250,7 +258,9 @@ func TestErrorsLeaveTheWorldAsItWas(t *testing.T) {
 	commit(t, w, 2)
 	end(t, w, 0, 1, 1)
 	end(t, w, 1, 0, 1)
+	end(t, w, 5, 1, 1)
 	begin(t, w, 0, 6)
+	putsAre(t, w, api.Entry{Query: "b", Open: true, Known: 1}, api.Entry{Query: "a", Value: 3, From: 1, Open: true, Known: 1})
 }
 
 func TestWorldsAreApart(t *testing.T) {
@@ -259,7 +269,10 @@ func TestWorldsAreApart(t *testing.T) {
 	commit(t, w, 1, api.Write{Key: 0, Value: 3})
 	tick(t, w)
 	begin(t, w, 0, 0)
+	read(t, w, 0, "a", 3)
 	now(t, other, 0, 0)
+	putsAre(t, other)
+	noRead(t, other, 0, "a", api.ErrReader)
 	if _, e := other.End(0); e != api.ErrReader {
 		t.Errorf("P2: a reader of another world ends: %d", e)
 	}
@@ -290,6 +303,7 @@ func TestNoCallPanics(t *testing.T) {
 	texts := []string{"", "a", "a+b", "×", "a\xc3", "\xff\xfe", strings.Repeat("a×", 13), strings.Repeat("h", 40), strings.Repeat("é", 5000)}
 	for nodes := 1; nodes <= api.MaxNodes; nodes++ {
 		w := newWorld(t, nodes, 1+nodes)
+		begin(t, w, 0, 0)
 		for _, a := range oddNumbers {
 			for _, q := range texts {
 				Parse(q)

@@ -1,4 +1,5 @@
-// Package readers keeps the readers that have begun and not ended (P8).
+// Package readers keeps the readers that have begun and not ended, and their
+// spans (P8 to P10).
 package readers
 
 import "almanac/api"
@@ -29,6 +30,32 @@ func (r *Readers) Begin(span api.Span) (int, api.Errno) {
 	r.seats[seat] = reader{reads: true, number: number, span: span}
 	r.begun++
 	return number, api.OK
+}
+
+// Span tells the span of a reader.
+func (r *Readers) Span(number int) (api.Span, api.Errno) {
+	seat, found := r.seatOf(number)
+	if !found {
+		return api.Span{}, api.ErrReader
+	}
+	return r.seats[seat].span, api.OK
+}
+
+// Narrow leaves a reader the part of its span that is in another one too, which
+// has at least one of its stamps.
+func (r *Readers) Narrow(number int, other api.Span) {
+	seat, found := r.seatOf(number)
+	if !found {
+		return
+	}
+	span := r.seats[seat].span
+	if span.From < other.From {
+		span.From = other.From
+	}
+	if span.To > other.To {
+		span.To = other.To
+	}
+	r.seats[seat].span = span
 }
 
 // End ends a reader, and tells its span.

@@ -26,8 +26,12 @@ func noReader(t *testing.T, r *Readers, number int) {
 	if span, e := r.End(number); span != (api.Span{}) || e != api.ErrReader {
 		t.Errorf("P8: End(%d) = %+v, %d, want ErrReader", number, span, e)
 	}
+	if span, e := r.Span(number); span != (api.Span{}) || e != api.ErrReader {
+		t.Errorf("P9: Span(%d) = %+v, %d, want ErrReader", number, span, e)
+	}
+	r.Narrow(number, api.Span{From: 1, To: 1})
 	if *r != before {
-		t.Errorf("P1: End(%d) changed the readers", number)
+		t.Errorf("P1: calls for no reader, %d, changed the readers", number)
 	}
 }
 
@@ -93,4 +97,47 @@ func TestBegunEver(t *testing.T) {
 	noReader(t, &r, api.MaxBegun)
 	end(t, &r, api.MaxBegun-2, spanOf(api.MaxBegun-2))
 	noBegin(t, &r, api.ErrFull)
+}
+
+func spanIs(t *testing.T, r *Readers, number int, want api.Span) {
+	t.Helper()
+	if span, e := r.Span(number); span != want || e != api.OK {
+		t.Errorf("P9: Span(%d) = %+v, %d, want %+v", number, span, e, want)
+	}
+}
+
+func TestNarrow(t *testing.T) {
+	for _, c := range []struct {
+		other, want api.Span
+	}{
+		{api.Span{From: 5, To: 9}, api.Span{From: 5, To: 9}},
+		{api.Span{From: 0, To: 20}, api.Span{From: 5, To: 9}},
+		{api.Span{From: 6, To: 20}, api.Span{From: 6, To: 9}},
+		{api.Span{From: 0, To: 8}, api.Span{From: 5, To: 8}},
+		{api.Span{From: 7, To: 7}, api.Span{From: 7, To: 7}},
+		{api.Span{From: 9, To: 9}, api.Span{From: 9, To: 9}},
+		{api.Span{From: 0, To: 5}, api.Span{From: 5, To: 5}},
+	} {
+		var r Readers
+		begin(t, &r, spanOf(8), 0)
+		begin(t, &r, api.Span{From: 5, To: 9}, 1)
+		r.Narrow(1, c.other)
+		spanIs(t, &r, 1, c.want)
+		spanIs(t, &r, 0, spanOf(8))
+		end(t, &r, 1, c.want)
+		noReader(t, &r, 1)
+	}
+}
+
+func TestNarrowAgainAndAgain(t *testing.T) {
+	var r Readers
+	begin(t, &r, api.Span{From: 2, To: 9}, 0)
+	for i := range 4 {
+		span := api.Span{From: api.Stamp(2 + i), To: api.Stamp(9 - i)}
+		r.Narrow(0, span)
+		spanIs(t, &r, 0, span)
+	}
+	end(t, &r, 0, api.Span{From: 5, To: 6})
+	begin(t, &r, api.Span{From: 2, To: 9}, 1)
+	spanIs(t, &r, 1, api.Span{From: 2, To: 9})
 }

@@ -1,10 +1,11 @@
-// Package store keeps the states that the commits made, and the clock (P6, P7).
+// Package store keeps what the commits made and wrote, and the clock (P6, P7).
 package store
 
 import "almanac/api"
 
 type commit struct {
 	state api.State
+	keys  uint8 // the keys it wrote
 	tick  int
 }
 
@@ -38,14 +39,14 @@ func (s *Store) Commit(l []api.Write) (api.Stamp, api.Errno) {
 		return 0, api.ErrLong
 	}
 	newest := s.Newest()
-	state, ok := written(s.At(newest), l)
+	state, keys, ok := written(s.At(newest), l)
 	if !ok {
 		return 0, api.ErrKey
 	}
 	if newest >= api.MaxStamp {
 		return 0, api.ErrFull
 	}
-	s.commits = append(s.commits, commit{state: state, tick: s.clock})
+	s.commits = append(s.commits, commit{state: state, keys: keys, tick: s.clock})
 	return newest + 1, api.OK
 }
 
@@ -70,14 +71,35 @@ func (s *Store) Since(tick int) api.Stamp {
 	return s.Newest()
 }
 
-// written gives the state with the writes done one after the other, or false if
-// one of them has no key.
-func written(state api.State, l []api.Write) (api.State, bool) {
+// Right tells from which stamp on, and till ahead of which one, an answer at the
+// stamp t that hangs on these keys is right (P10). The second is 0 if there is
+// none yet; else it is above t, and so never 0.
+func (s *Store) Right(keys uint8, t api.Stamp) (api.Stamp, api.Stamp) {
+	from := api.Stamp(0)
+	for i, c := range s.commits {
+		if c.keys&keys == 0 {
+			continue
+		}
+		stamp := api.Stamp(i + 1)
+		if stamp > t {
+			return from, stamp
+		}
+		from = stamp
+	}
+	return from, 0
+}
+
+// written gives the state with the writes done one after the other, and the keys
+// that they wrote, or false if one of them has no key.
+func written(state api.State, l []api.Write) (api.State, uint8, bool) {
+	keys := uint8(0)
 	for _, x := range l {
 		if x.Key < 0 || x.Key >= api.Keys {
-			return api.State{}, false
+			return api.State{}, 0, false
 		}
 		state[x.Key] = x.Value
+		// A value that was there already is written too.
+		keys |= uint8(1) << uint(x.Key)
 	}
-	return state, true
+	return state, keys, true
 }

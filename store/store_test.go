@@ -1,6 +1,7 @@
 package store
 
 import (
+	"math/rand"
 	"reflect"
 	"testing"
 
@@ -151,4 +152,87 @@ func TestSince(t *testing.T) {
 			t.Errorf("P8: Since(%d) = %d, want %d", c.tick, stamp, c.want)
 		}
 	}
+}
+
+func rightIs(t *testing.T, s *Store, keys uint8, stamp api.Stamp, from api.Stamp, till api.Stamp) {
+	t.Helper()
+	if f, g := s.Right(keys, stamp); f != from || g != till {
+		t.Errorf("P10: Right(%b, %d) = %d, %d, want %d, %d", keys, stamp, f, g, from, till)
+	}
+}
+
+func TestRight(t *testing.T) {
+	var s Store
+	rightIs(t, &s, 255, 0, 0, 0)
+	commitOK(t, &s, []api.Write{{Key: 0, Value: 1}}, 1)
+	commitOK(t, &s, nil, 2)
+	commitOK(t, &s, []api.Write{{Key: 1, Value: 2}, {Key: 7, Value: 2}, {Key: 1, Value: 0}}, 3)
+	commitOK(t, &s, []api.Write{{Key: 0, Value: 1}}, 4) // as it was: written all the same
+	rightIs(t, &s, 1, 0, 0, 1)
+	rightIs(t, &s, 1, 1, 1, 4)
+	rightIs(t, &s, 1, 3, 1, 4)
+	rightIs(t, &s, 1, 4, 4, 0)
+	rightIs(t, &s, 2, 2, 0, 3)
+	rightIs(t, &s, 2, 3, 3, 0)
+	rightIs(t, &s, 2, 4, 3, 0)
+	rightIs(t, &s, 128, 4, 3, 0)
+	rightIs(t, &s, 3, 2, 1, 3)
+	rightIs(t, &s, 3, 3, 3, 4)
+	rightIs(t, &s, 4, 3, 0, 0)
+	rightIs(t, &s, 0, 2, 0, 0)
+	commitOK(t, &s, []api.Write{{Key: 2, Value: 1}}, 5)
+	rightIs(t, &s, 4, 3, 0, 5)
+	rightIs(t, &s, 6, 4, 3, 5)
+}
+
+// touches: whether one of the writes has a key of the set.
+func touches(l []api.Write, keys uint8) bool {
+	for _, x := range l {
+		if keys>>x.Key&1 == 1 {
+			return true
+		}
+	}
+	return false
+}
+
+func TestRightByTheWords(t *testing.T) {
+	r := rand.New(rand.NewSource(1))
+	var s Store
+	lists := [][]api.Write{nil}
+	for stamp := 1; stamp <= 60; stamp++ {
+		var l []api.Write
+		for range r.Intn(3) {
+			l = append(l, api.Write{Key: r.Intn(api.Keys), Value: int32(r.Intn(2))})
+		}
+		lists = append(lists, l)
+		commitOK(t, &s, l, api.Stamp(stamp))
+	}
+	for keys := range 256 {
+		for at := range lists {
+			from := at
+			for from > 0 && !touches(lists[from], uint8(keys)) {
+				from--
+			}
+			till := at + 1
+			for till < len(lists) && !touches(lists[till], uint8(keys)) {
+				till++
+			}
+			if till == len(lists) {
+				till = 0
+			}
+			rightIs(t, &s, uint8(keys), api.Stamp(at), api.Stamp(from), api.Stamp(till))
+		}
+	}
+}
+
+func TestRightOfAFullStore(t *testing.T) {
+	var s Store
+	for i := range api.MaxStamp {
+		commitOK(t, &s, []api.Write{{Key: i % 2}}, api.Stamp(i+1))
+	}
+	rightIs(t, &s, 2, api.MaxStamp, api.MaxStamp, 0)
+	rightIs(t, &s, 1, api.MaxStamp, api.MaxStamp-1, 0)
+	rightIs(t, &s, 2, api.MaxStamp-1, api.MaxStamp-2, api.MaxStamp)
+	rightIs(t, &s, 2, 256, 256, 258)
+	rightIs(t, &s, 4, 0, 0, 0)
 }
