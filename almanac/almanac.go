@@ -3,6 +3,7 @@ package almanac
 
 import (
 	"almanac/api"
+	"almanac/memory"
 	"almanac/puts"
 	"almanac/queries"
 	"almanac/readers"
@@ -14,6 +15,7 @@ type World struct {
 	store   store.Store
 	readers readers.Readers
 	puts    puts.Puts
+	nodes   []memory.Node
 }
 
 // Parse tells what a query is (P3).
@@ -34,7 +36,11 @@ func New(nodes int, room int) (*World, api.Errno) {
 	if room < 1 || room > api.MaxRoom {
 		return nil, api.ErrRoom
 	}
-	return &World{}, api.OK
+	w := &World{}
+	for range nodes {
+		w.nodes = append(w.nodes, memory.New(room))
+	}
+	return w, api.OK
 }
 
 // Commit writes (P6).
@@ -75,6 +81,12 @@ func (w *World) Read(reader int, query string) (int32, bool, api.Errno) {
 	if e != api.OK {
 		return 0, false, e
 	}
+	node := w.nodeOf(query)
+	value, cover, hit := node.Answer(query, span)
+	if hit {
+		w.readers.Narrow(reader, cover)
+		return value, true, api.OK
+	}
 	put := w.answer(query, shape.Keys, span.To)
 	w.readers.Narrow(reader, api.Span{From: put.From, To: span.To})
 	w.puts.Join(put)
@@ -102,7 +114,14 @@ func (w *World) Puts() []api.Entry {
 }
 
 // Store lets a put arrive (P12).
-func (w *World) Store(i int) (bool, api.Errno) { return false, api.OK }
+func (w *World) Store(i int) (bool, api.Errno) {
+	put, e := w.puts.Take(i)
+	if e != api.OK {
+		return false, e
+	}
+	node := w.nodeOf(put.Query)
+	return node.Store(put), api.OK
+}
 
 // Drop loses a put (P11).
 func (w *World) Drop(i int) api.Errno {
@@ -111,10 +130,37 @@ func (w *World) Drop(i int) api.Errno {
 }
 
 // Evict lets a node forget an entry (P13).
-func (w *World) Evict(node int, i int) api.Errno { return api.OK }
+func (w *World) Evict(node int, i int) api.Errno {
+	n, e := w.nodeAt(node)
+	if e != api.OK {
+		return e
+	}
+	return n.Evict(i)
+}
 
 // Look tells what a node is (P13).
-func (w *World) Look(node int) (api.Report, api.Errno) { return api.Report{}, api.OK }
+func (w *World) Look(node int) (api.Report, api.Errno) {
+	n, e := w.nodeAt(node)
+	if e != api.OK {
+		return api.Report{}, e
+	}
+	return n.Look(), api.OK
+}
+
+// nodeAt gives the node with a number.
+func (w *World) nodeAt(number int) (*memory.Node, api.Errno) {
+	if number < 0 || number >= len(w.nodes) {
+		return nil, api.ErrNode
+	}
+	return &w.nodes[number], api.OK
+}
+
+// nodeOf gives the node of a query. There always is one: New gave the world at
+// least one node, and the number is below how many there are.
+func (w *World) nodeOf(query string) *memory.Node {
+	number := queries.Node(query, len(w.nodes))
+	return &w.nodes[number]
+}
 
 // Flight tells the messages on their way to a node (P14).
 func (w *World) Flight(node int) ([]api.Message, api.Errno) { return nil, api.OK }

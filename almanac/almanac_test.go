@@ -235,6 +235,10 @@ func wrongCalls(t *testing.T, w *World) {
 	noRead(t, w, 1, strings.Repeat("a", 41), api.ErrLong)
 	for _, i := range []int{-1, 2, 10} {
 		noDrop(t, w, i)
+		noStore(t, w, i)
+		noEvict(t, w, i, 0, api.ErrNode)
+		noEvict(t, w, 0, i, api.ErrArg)
+		noLook(t, w, i)
 	}
 }
 
@@ -248,7 +252,9 @@ func TestErrorsLeaveTheWorldAsItWas(t *testing.T) {
 			begin(t, x, i%2, i)
 		}
 		read(t, x, 1, "b", 0)
+		read(t, x, 1, "d", 0)
 		read(t, x, 5, "a", 3)
+		storePut(t, x, 1)
 	}
 	wrongCalls(t, w)
 	if !reflect.DeepEqual(w, twin) {
@@ -261,6 +267,8 @@ func TestErrorsLeaveTheWorldAsItWas(t *testing.T) {
 	end(t, w, 5, 1, 1)
 	begin(t, w, 0, 6)
 	putsAre(t, w, api.Entry{Query: "b", Open: true, Known: 1}, api.Entry{Query: "a", Value: 3, From: 1, Open: true, Known: 1})
+	nodeIs(t, w, 0, api.Entry{Query: "d", Open: true, Known: 1})
+	nodeIs(t, w, 1)
 }
 
 func TestWorldsAreApart(t *testing.T) {

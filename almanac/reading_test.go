@@ -1,7 +1,6 @@
 package almanac
 
 import (
-	"math/rand"
 	"reflect"
 	"strings"
 	"testing"
@@ -241,110 +240,4 @@ func TestPutListsAreTheCallers(t *testing.T) {
 	if !reflect.DeepEqual(kept, []api.Entry{a, b}) || mine[0].Query != "mine" {
 		t.Errorf("P2: lists that were told already changed: %v, %v", kept, mine)
 	}
-}
-
-// byWords is a world by the words of the document, with nothing worked out ahead.
-type byWords struct {
-	commits [][]api.Write // of each stamp; stamp 0 wrote nothing
-	spans   []api.Span    // of each reader that has begun
-	puts    []api.Entry
-}
-
-func (m *byWords) state(stamp api.Stamp) api.State {
-	var s api.State
-	for _, l := range m.commits[:stamp+1] {
-		for _, x := range l {
-			s[x.Key] = x.Value
-		}
-	}
-	return s
-}
-
-func (m *byWords) touches(stamp api.Stamp, query string) bool {
-	for _, x := range m.commits[stamp] {
-		if strings.Contains(query, string(rune('a'+x.Key))) {
-			return true
-		}
-	}
-	return false
-}
-
-func (m *byWords) read(reader int, query string) int32 {
-	span := &m.spans[reader]
-	newest := api.Stamp(len(m.commits) - 1)
-	value, _ := Eval(query, m.state(span.To))
-	put := api.Entry{Query: query, Value: value, Open: true, Known: newest}
-	for stamp := api.Stamp(1); stamp <= span.To; stamp++ {
-		if m.touches(stamp, query) {
-			put.From = stamp
-		}
-	}
-	for stamp := newest; stamp > span.To; stamp-- {
-		if m.touches(stamp, query) {
-			put.Open = false
-			put.Till = stamp
-		}
-	}
-	span.From = max(span.From, put.From)
-	if len(m.puts) < 10 {
-		m.puts = append(m.puts, put)
-	}
-	return value
-}
-
-func randomQuery(r *rand.Rand) string {
-	query := string("abcdefgh"[r.Intn(8)])
-	for range r.Intn(3) {
-		query += []string{"+", "-", "×", "÷"}[r.Intn(4)] + string("abcdefgh"[r.Intn(8)])
-	}
-	return query
-}
-
-func randomWrites(r *rand.Rand) []api.Write {
-	var l []api.Write
-	for range r.Intn(4) {
-		l = append(l, set(r.Intn(api.Keys), int32(r.Intn(9)-4)))
-	}
-	return l
-}
-
-func TestReadsByTheWords(t *testing.T) {
-	for seed := range 60 {
-		r := rand.New(rand.NewSource(int64(seed)))
-		w := newWorld(t, 1+seed%3, 1+seed%6)
-		m := byWords{commits: [][]api.Write{nil}}
-		for range 150 {
-			step(t, r, w, &m)
-		}
-		for reader, span := range m.spans {
-			end(t, w, reader, span.From, span.To)
-		}
-		if t.Failed() {
-			t.Fatalf("with the seed %d", seed)
-		}
-	}
-}
-
-// step does one thing in a world without ticks, in which all spans begin at stamp 0.
-func step(t *testing.T, r *rand.Rand, w *World, m *byWords) {
-	t.Helper()
-	n := len(m.commits)
-	switch k := r.Intn(10); {
-	case k < 3:
-		l := randomWrites(r)
-		commit(t, w, api.Stamp(n), l...)
-		m.commits = append(m.commits, l)
-	case k == 3 && len(m.spans) < api.MaxReaders:
-		begin(t, w, 0, len(m.spans))
-		m.spans = append(m.spans, api.Span{To: api.Stamp(n - 1)})
-	case k < 6 && len(m.puts) > 0:
-		i := r.Intn(len(m.puts))
-		drop(t, w, i)
-		m.puts = append(m.puts[:i:i], m.puts[i+1:]...)
-	case len(m.spans) > 0:
-		reader := r.Intn(len(m.spans))
-		query := randomQuery(r)
-		read(t, w, reader, query, m.read(reader, query))
-	}
-	putsAre(t, w, m.puts...)
 }

@@ -1,4 +1,5 @@
-// Package queries reads query texts and works them out (P3, P4).
+// Package queries reads query texts and works them out (P3, P4), and tells which
+// node is theirs.
 package queries
 
 import "almanac/api"
@@ -40,6 +41,18 @@ func Eval(query string, state api.State) (int32, api.Errno) {
 		value = apply(value, s.sign, state[s.key])
 	}
 	return value, api.OK
+}
+
+// Node tells which of so many nodes is a query's own: 0 if there are none.
+func Node(query string, nodes int) int {
+	if nodes < 1 {
+		return 0
+	}
+	sum := 0
+	for i := range len(query) {
+		sum += int(query[i])
+	}
+	return sum % nodes
 }
 
 // read has the one order in which the errors of a query are told.

@@ -160,3 +160,25 @@ func TestEvalPairs(t *testing.T) {
 		}
 	}
 }
+
+func TestNode(t *testing.T) {
+	for _, c := range []struct {
+		query string
+		two   int // its node of two
+		three int
+	}{
+		{"a", 1, 1}, {"a+b", 0, 1}, {"a×b", 1, 1}, // of the document
+		{"b", 0, 2}, {"c", 1, 0}, {"b+a", 0, 1}, {"a-a", 1, 2}, {"a÷b", 1, 0}, {"g×g", 0, 0},
+		{strings.Repeat("h÷", 7) + "h", 0, 1}, // 3478: more than a byte holds
+		{strings.Repeat("h×", 7) + "h", 0, 2},
+	} {
+		if one, two, three := Node(c.query, 1), Node(c.query, 2), Node(c.query, 3); one != 0 || two != c.two || three != c.three {
+			t.Errorf("P9: the nodes of %q are %d, %d, %d, want 0, %d, %d", c.query, one, two, three, c.two, c.three)
+		}
+	}
+	for _, nodes := range []int{0, -1, -1 << 63} {
+		if node := Node("a+b", nodes); node != 0 {
+			t.Errorf("P1: of %d nodes the query's is %d", nodes, node)
+		}
+	}
+}
