@@ -3,6 +3,7 @@ package almanac
 
 import (
 	"almanac/api"
+	"almanac/links"
 	"almanac/memory"
 	"almanac/puts"
 	"almanac/queries"
@@ -15,7 +16,13 @@ type World struct {
 	store   store.Store
 	readers readers.Readers
 	puts    puts.Puts
-	nodes   []memory.Node
+	sites   []site // sites[i] is that of the node i
+}
+
+// site is a node, and the link to it.
+type site struct {
+	node memory.Node
+	link links.Link
 }
 
 // Parse tells what a query is (P3).
@@ -38,14 +45,23 @@ func New(nodes int, room int) (*World, api.Errno) {
 	}
 	w := &World{}
 	for range nodes {
-		w.nodes = append(w.nodes, memory.New(room))
+		w.sites = append(w.sites, site{node: memory.New(room)})
 	}
 	return w, api.OK
 }
 
-// Commit writes (P6).
+// Commit writes (P6), and tells the nodes (P14).
 func (w *World) Commit(l []api.Write) (api.Stamp, api.Errno) {
-	return w.store.Commit(l)
+	stamp, e := w.store.Commit(l)
+	if e != api.OK {
+		return 0, e
+	}
+	keys := w.store.Wrote(stamp)
+	for i := range w.sites {
+		s := &w.sites[i]
+		s.tell(stamp, keys)
+	}
+	return stamp, api.OK
 }
 
 // Tick lets the clock go on (P7).
@@ -131,51 +147,119 @@ func (w *World) Drop(i int) api.Errno {
 
 // Evict lets a node forget an entry (P13).
 func (w *World) Evict(node int, i int) api.Errno {
-	n, e := w.nodeAt(node)
+	s, e := w.siteAt(node)
 	if e != api.OK {
 		return e
 	}
-	return n.Evict(i)
+	return s.node.Evict(i)
 }
 
 // Look tells what a node is (P13).
 func (w *World) Look(node int) (api.Report, api.Errno) {
-	n, e := w.nodeAt(node)
+	s, e := w.siteAt(node)
 	if e != api.OK {
 		return api.Report{}, e
 	}
-	return n.Look(), api.OK
+	return s.node.Look(), api.OK
 }
 
-// nodeAt gives the node with a number.
-func (w *World) nodeAt(number int) (*memory.Node, api.Errno) {
-	if number < 0 || number >= len(w.nodes) {
+// Flight tells the messages on their way to a node (P14).
+func (w *World) Flight(node int) ([]api.Message, api.Errno) {
+	s, e := w.siteAt(node)
+	if e != api.OK {
+		return nil, e
+	}
+	return s.link.List(), api.OK
+}
+
+// Deliver lets a message arrive (P15).
+func (w *World) Deliver(node int, i int) api.Errno {
+	s, e := w.siteAt(node)
+	if e != api.OK {
+		return e
+	}
+	message, e := s.link.Take(i)
+	if e != api.OK {
+		return e
+	}
+	s.node.Arrive(message.Stamp, message.Keys)
+	return api.OK
+}
+
+// Lose loses a message (P14).
+func (w *World) Lose(node int, i int) api.Errno {
+	s, e := w.siteAt(node)
+	if e != api.OK {
+		return e
+	}
+	_, e = s.link.Take(i)
+	return e
+}
+
+// Copy makes a message twice (P14).
+func (w *World) Copy(node int, i int) api.Errno {
+	s, e := w.siteAt(node)
+	if e != api.OK {
+		return e
+	}
+	return s.link.Copy(i)
+}
+
+// Ask lets a node ask for what it has not heard (P16).
+func (w *World) Ask(node int) (api.Stamp, api.Errno) {
+	s, e := w.siteAt(node)
+	if e != api.OK {
+		return 0, e
+	}
+	newest := w.store.Newest()
+	if !s.node.Up() {
+		s.node.Rise(newest)
+		return newest, api.OK
+	}
+	horizon := s.node.Horizon()
+	if horizon < newest {
+		keys := w.store.Wrote(horizon + 1)
+		s.node.Hear(keys)
+	}
+	return s.node.Horizon(), api.OK
+}
+
+// Restart lets a node fall (P16).
+func (w *World) Restart(node int) api.Errno {
+	s, e := w.siteAt(node)
+	if e != api.OK {
+		return e
+	}
+	s.fall()
+	return api.OK
+}
+
+// siteAt gives the site of the node with a number.
+func (w *World) siteAt(number int) (*site, api.Errno) {
+	if number < 0 || number >= len(w.sites) {
 		return nil, api.ErrNode
 	}
-	return &w.nodes[number], api.OK
+	return &w.sites[number], api.OK
 }
 
 // nodeOf gives the node of a query. There always is one: New gave the world at
 // least one node, and the number is below how many there are.
 func (w *World) nodeOf(query string) *memory.Node {
-	number := queries.Node(query, len(w.nodes))
-	return &w.nodes[number]
+	number := queries.Node(query, len(w.sites))
+	return &w.sites[number].node
 }
 
-// Flight tells the messages on their way to a node (P14).
-func (w *World) Flight(node int) ([]api.Message, api.Errno) { return nil, api.OK }
+// tell is what a commit does for a node (P14).
+func (s *site) tell(stamp api.Stamp, keys uint8) {
+	s.link.Age(stamp)
+	if s.node.Lags(stamp) {
+		s.fall()
+	}
+	s.link.Send(links.Sent{Stamp: stamp, Keys: keys})
+}
 
-// Deliver lets a message arrive (P15).
-func (w *World) Deliver(node int, i int) api.Errno { return api.OK }
-
-// Lose loses a message (P14).
-func (w *World) Lose(node int, i int) api.Errno { return api.OK }
-
-// Copy makes a message twice (P14).
-func (w *World) Copy(node int, i int) api.Errno { return api.OK }
-
-// Ask lets a node ask for what it has not heard (P16).
-func (w *World) Ask(node int) (api.Stamp, api.Errno) { return 0, api.OK }
-
-// Restart lets a node fall (P16).
-func (w *World) Restart(node int) api.Errno { return api.OK }
+// fall lets the node fall, and loses what is on its way to it (P16).
+func (s *site) fall() {
+	s.node.Fall()
+	s.link.Clear()
+}

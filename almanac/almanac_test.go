@@ -239,6 +239,16 @@ func wrongCalls(t *testing.T, w *World) {
 		noEvict(t, w, i, 0, api.ErrNode)
 		noEvict(t, w, 0, i, api.ErrArg)
 		noLook(t, w, i)
+		noFlight(t, w, i)
+		noMessage(t, w, i, 0, api.ErrNode)
+		noMessage(t, w, 0, i, api.ErrArg)
+		noAsk(t, w, i)
+		noRestart(t, w, i)
+	}
+	for i := range api.MaxFlight {
+		if e := w.Copy(1, i); e != api.ErrFull {
+			t.Errorf("P1: Copy(1, %d) = %d", i, e)
+		}
 	}
 }
 
@@ -255,6 +265,9 @@ func TestErrorsLeaveTheWorldAsItWas(t *testing.T) {
 		read(t, x, 1, "d", 0)
 		read(t, x, 5, "a", 3)
 		storePut(t, x, 1)
+		for range api.MaxFlight - 1 {
+			copyOf(t, x, 1, 0)
+		}
 	}
 	wrongCalls(t, w)
 	if !reflect.DeepEqual(w, twin) {

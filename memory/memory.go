@@ -1,5 +1,5 @@
 // Package memory keeps what a node remembers, and how far it has heard of what
-// was written (P9, P12, P13).
+// was written (P9, P12, P13, P15, P16).
 package memory
 
 import (
@@ -13,20 +13,21 @@ type held struct {
 	used  uint64
 }
 
-// commit is one of which the node has heard.
+// commit is one of which the node has heard, or of which a message waits.
 type commit struct {
 	stamp api.Stamp
 	keys  uint8 // the keys it wrote
 }
 
-// Node is a node; the zero Node is not up. One that is not up has no entries.
+// Node is a node; the zero Node is not up. One that is not up has its room alone.
 type Node struct {
 	up      bool
 	room    int
 	horizon api.Stamp
-	history []commit
-	entries []held // in the order in which they were laid
-	uses    uint64 // how often entries were used
+	history []commit // in the order of their stamps, the last one at the horizon
+	waiting []commit // 1 to MaxAhead above the stamp behind the horizon, in any order
+	entries []held   // in the order in which they were laid
+	uses    uint64   // how often entries were used
 }
 
 // New gives a node that is up and empty, with the horizon 0.
@@ -73,14 +74,14 @@ func (n *Node) Evict(i int) api.Errno {
 	return api.OK
 }
 
-// Look tells what the node is, in lists that are the caller's. No message waits:
-// none arrives yet.
+// Look tells what the node is, in lists that are the caller's.
 func (n *Node) Look() api.Report {
 	var l []api.Entry
 	for _, x := range n.entries {
 		l = append(l, x.entry)
 	}
-	return api.Report{Up: n.up, Horizon: n.horizon, Entries: l}
+	waiting := n.waitingNumbers()
+	return api.Report{Up: n.up, Horizon: n.horizon, Waiting: waiting, Entries: l}
 }
 
 // latest gives, of the entries of a query that cover a stamp of the span, the

@@ -33,6 +33,15 @@ func (s *Store) At(t api.Stamp) api.State {
 	return s.commits[t-1].state
 }
 
+// Wrote tells the keys that the commit with a stamp wrote; none if there is no such
+// commit.
+func (s *Store) Wrote(t api.Stamp) uint8 {
+	if t == 0 || t > s.Newest() {
+		return 0
+	}
+	return s.commits[t-1].keys
+}
+
 // Commit writes, and tells the new stamp.
 func (s *Store) Commit(l []api.Write) (api.Stamp, api.Errno) {
 	if len(l) > api.MaxWrites {

@@ -236,3 +236,18 @@ func TestRightOfAFullStore(t *testing.T) {
 	rightIs(t, &s, 2, 256, 256, 258)
 	rightIs(t, &s, 4, 0, 0, 0)
 }
+
+func TestWrote(t *testing.T) {
+	var s Store
+	commitOK(t, &s, []api.Write{{Key: 0, Value: 1}}, 1)
+	commitOK(t, &s, nil, 2)
+	commitOK(t, &s, []api.Write{{Key: 7, Value: 2}, {Key: 1, Value: 0}, {Key: 7, Value: 0}}, 3)
+	for stamp, want := range []uint8{0, 1, 0, 130, 0, 0} {
+		if keys := s.Wrote(api.Stamp(stamp)); keys != want {
+			t.Errorf("P14: the commit %d wrote the keys %b, want %b", stamp, keys, want)
+		}
+	}
+	if keys := s.Wrote(1<<64 - 1); keys != 0 {
+		t.Errorf("P14: a commit that is not there wrote the keys %b", keys)
+	}
+}
